@@ -1,0 +1,1 @@
+"""Noteboard: hands that lay notes and take them by patterns, all weavings, and a small checker."""
