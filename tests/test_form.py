@@ -1,6 +1,7 @@
 """The package keeps to the small part of Python it is written in: the rules that a walk over its files can see."""
 
 import ast
+import builtins
 import pathlib
 import re
 import unittest
@@ -17,6 +18,38 @@ PYTHONS_OWN = set((
 NO_WORDS = set((
     "type typing typing_extensions enum Enum IntEnum StrEnum Flag IntFlag Generic Protocol ABC ABCMeta namedtuple "
     "NamedTuple TypedDict TYPE_CHECKING abstractmethod").split())
+
+PYTHONS_METHODS = set((
+    "append clear copy count endswith extend find get index insert isalnum isalpha isdigit islower isspace isupper "
+    "items join keys ljust lower lstrip partition pop remove replace reverse rfind rjust rpartition rsplit rstrip "
+    "setdefault split splitlines startswith strip update upper values zfill bit_length").split())
+
+
+def top_names(tree):
+    """The names that a file's own defs, classes and values have at its top, in their order."""
+    names = []
+    for node in tree.body:
+        if isinstance(node, (ast.FunctionDef, ast.ClassDef)):
+            names.append(node.name)
+        if isinstance(node, ast.Assign):
+            names += [target.id for target in node.targets]
+    return names
+
+
+def imported(tree):
+    return [(node.module, alias.name) for node in tree.body if isinstance(node, ast.ImportFrom) for alias in node.names]
+
+
+def local_names(tree):
+    names = set()
+    for function in ast.walk(tree):
+        if isinstance(function, (ast.FunctionDef, ast.Lambda)):
+            for node in ast.walk(function):
+                if isinstance(node, ast.arg):
+                    names.add(node.arg)
+                if isinstance(node, ast.Name) and isinstance(node.ctx, ast.Store):
+                    names.add(node.id)
+    return names
 
 
 def bound_names(tree):
@@ -112,8 +145,71 @@ class FormTest(unittest.TestCase):
                 for name in own:
                     self.assertRegex(name, r"^[A-Za-z][A-Za-z0-9_]*$|^__(all|version)__$")
                 self.assertEqual(own & PYTHONS_OWN, set())
+                self.assertEqual(local_names(tree) & set(dir(builtins)), set())
                 loaded = {node.id for node in ast.walk(tree) if isinstance(node, ast.Name)}
                 self.assertEqual(loaded - own - PYTHONS_OWN - {"__name__", "object", "float", "bytes"}, set())
+
+    def test_top_of_each_file(self):
+        for path, tree in self.trees.items():
+            names = top_names(tree)
+            drawn = [name for module, name in imported(tree)]
+            classes = [node.name for node in tree.body if isinstance(node, ast.ClassDef)]
+            with self.subTest(file=path.name):
+                self.assertEqual(len(set(names + drawn)), len(names + drawn))
+                self.assertEqual(local_names(tree) & set(drawn + classes), set())
+                self.check_top(path, tree)
+
+    def check_top(self, path, tree):
+        above = []
+        for node in tree.body:
+            if path.name != "__main__.py":
+                self.assertIsInstance(node, (ast.Expr, ast.ImportFrom, ast.FunctionDef, ast.ClassDef, ast.Assign))
+            if isinstance(node, ast.FunctionDef):
+                above.append(node.name)
+            if isinstance(node, ast.Assign):
+                for part in ast.walk(node.value):
+                    self.assertIsInstance(part, (ast.Constant, ast.List, ast.Tuple, ast.Dict, ast.Name,
+                                                 ast.expr_context, ast.UnaryOp, ast.USub))
+                    self.assertTrue(not isinstance(part, ast.Name) or part.id in above, path.name)
+
+    def test_drawn_from_the_file_that_defines_it_and_never_round(self):
+        drawn = {path.stem: imported(tree) for path, tree in self.trees.items()}
+        defined = {path.stem: top_names(tree) for path, tree in self.trees.items()}
+        for stem, rows in drawn.items():
+            for module, name in rows:
+                self.assertIn(name, defined[module.partition(".")[2]], stem)
+        ended = set()
+        while len(ended) < len(drawn):
+            ready = [stem for stem in drawn if stem not in ended
+                     and {module.partition(".")[2] for module, name in drawn[stem]} <= ended]
+            self.assertNotEqual(ready, [], "files draw from one another")
+            ended |= set(ready)
+
+    def test_methods_of_pythons_own_values(self):
+        own = {"__init__"}
+        for where, node in self.nodes():
+            if isinstance(node, ast.ClassDef):
+                own |= {part.name for part in node.body if isinstance(part, ast.FunctionDef)}
+        for where, node in self.nodes():
+            if isinstance(node, ast.Call) and isinstance(node.func, ast.Attribute):
+                self.assertIn(node.func.attr, PYTHONS_METHODS | own, where)
+
+    def test_sets_are_not_kept(self):
+        for where, node in self.nodes():
+            self.assertNotIsInstance(node, ast.Set, where)
+            for part in ast.iter_child_nodes(node):
+                if isinstance(part, ast.Call) and isinstance(part.func, ast.Name) and part.func.id == "set":
+                    self.assertIsInstance(node, (ast.Call, ast.Compare, ast.BinOp), where)
+
+    def test_walked_at_once(self):
+        walkers = {"list", "tuple", "dict", "sorted", "sum", "any", "all", "enumerate", "zip", "min", "max"}
+        for where, node in self.nodes():
+            if isinstance(node, (ast.For, ast.comprehension)):
+                continue
+            for part in ast.iter_child_nodes(node):
+                if isinstance(part, ast.Call) and isinstance(part.func, ast.Name):
+                    if part.func.id in ("zip", "enumerate", "reversed", "range"):
+                        self.assertIn(getattr(getattr(node, "func", None), "id", None), walkers, where)
 
 
 if __name__ == "__main__":
