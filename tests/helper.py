@@ -1,4 +1,9 @@
-"""Plain things, right and wrong, that several tests hand to the judges."""
+"""What several tests share: plain things, right and wrong, plans and stands, and a second board to hold against."""
+
+import random
+
+from noteboard.plantexts import read_plan
+from noteboard.programs import is_program, known_at
 
 
 def nested(depth, kind):
@@ -91,3 +96,182 @@ NOTES = [(("job", 1), None), (("job", 2), 20), ((0,), 1), (("a", "note", 99, "zz
 
 PLANS = [((), ()), ((), tuple(NOTES)), (tuple(PROGRAMS), ()), (tuple(PROGRAMS), tuple(NOTES) * 3)]
 PLANS += [((one,), (note,)) for one in PROGRAMS for note in NOTES]
+
+
+def plan_of(text):
+    """The plan of a text, its lines parted by "; "."""
+    return read_plan([line for line in text.split("; ") if line])
+
+
+def notes_of(text):
+    """However many notes, written as in a plan's lines, parted by "; "."""
+    return tuple([read_plan(["note " + note])[1][0] for note in text.split("; ") if note])
+
+
+def at(number, place, **names):
+    """A stand's hand."""
+    return (number, place, tuple(sorted(names.items())))
+
+
+VALUES = (0, 1, 99, "a", "b")
+
+
+def made_field(source, heads):
+    head = source.choice(heads)
+    if head == "is":
+        return (head, source.choice(VALUES))
+    return (head, source.choice("mn")) if head in ("bind", "as", "next") else (head,)
+
+
+def made_fields(source, heads):
+    return tuple([made_field(source, heads) for _ in range(source.choice((1, 1, 1, 2, 2, 3)))])
+
+
+def made_act(source, blocks):
+    head = source.choice(("lay", "lay", "take", "read", "look", "same", "go"))
+    number = source.randrange(blocks)
+    if head == "lay":
+        return (head, made_fields(source, ("is", "is", "as", "next")), source.choice((None, None, 1, 2, 20)))
+    if head == "same":
+        return (head, made_field(source, ("is", "as")), made_field(source, ("is", "as")), number)
+    if head == "go":
+        return (head, number)
+    pattern = made_fields(source, ("is", "any", "word", "number", "bind", "bind", "as"))
+    return (head, pattern, number) if head == "look" else (head, pattern)
+
+
+def made_program(source):
+    many = source.randint(1, 3)
+    wanted = [()] + [tuple(sorted(source.sample("mn", source.choice((0, 0, 1, 2))))) for _ in range(many - 1)]
+    blocks = [[names, ()] for names in wanted]
+    for number in range(many):
+        for _ in range(source.randint(0, 6)):
+            # One that isn't right there is left out, so that what is told is a program.
+            acts = blocks[number][1]
+            blocks[number][1] = acts + (made_act(source, many),)
+            if not is_program(tuple([tuple(one) for one in blocks])):
+                blocks[number][1] = acts
+    return tuple([tuple(one) for one in blocks])
+
+
+def made_row(source):
+    return tuple([source.choice(VALUES) for _ in range(source.choice((1, 1, 1, 2, 2, 3)))])
+
+
+def made_notes(source, most):
+    return tuple([(made_row(source), source.choice((None, None, 1, 2, 20))) for _ in range(source.randint(0, most))])
+
+
+def made_plans(seed, many, hands=(0, 1, 2, 2, 3, 3), notes=4):
+    """So many plans, ever the same ones for a seed."""
+    source = random.Random(seed)
+    return [(tuple([made_program(source) for _ in range(source.choice(hands))]), made_notes(source, notes))
+            for _ in range(many)]
+
+
+def made_stand(source, programs, notes=6):
+    """A right stand of the programs, whether a weaving leads to it or not."""
+    hands = []
+    for one in programs:
+        number = source.randrange(len(one))
+        place = source.randint(0, len(one[number][1]))
+        hands.append((number, place, tuple([(name, source.choice(VALUES)) for name in known_at(one, number, place)])))
+    return (tuple(hands), made_notes(source, notes))
+
+
+class Board:
+    """A board that changes as DOC.md 22, 23 and 27 tell, written apart from the program, to hold it against."""
+
+    def __init__(self, programs, stand):
+        self.programs = programs
+        self.hands = [[number, place, dict(names)] for number, place, names in stand[0]]
+        self.notes = [[number, row, age] for number, (row, age) in enumerate(stand[1])]
+        self.made = len(self.notes)
+
+    def stand(self):
+        hands = [(number, place, tuple(sorted(names.items()))) for number, place, names in self.hands]
+        return (tuple(hands), tuple([(row, age) for number, row, age in self.notes]))
+
+    def act(self, hand):
+        number, place, names = self.hands[hand]
+        return dict(enumerate(self.programs[hand][number][1])).get(place, ("ended",))
+
+    def names_behind(self, pattern, row, names):
+        here = {}
+        for (head, *more), value in zip(pattern, row):
+            number = isinstance(value, int)
+            right = {"is": more == [value], "any": True, "word": not number, "number": number,
+                     "as": {**names, **here}.get(*more) == value if head == "as" else None,
+                     "bind": here.get(*more, value) == value if head == "bind" else None}[head]
+            if not right:
+                return None
+            if head == "bind":
+                here[more[0]] = value
+        return {**names, **here} if len(pattern) == len(row) else None
+
+    def found(self, hand):
+        head, *more = self.act(hand)
+        if head in ("take", "read", "look"):
+            for note in self.notes:
+                if self.names_behind(more[0], note[1], self.hands[hand][2]) is not None:
+                    return note
+        return None
+
+    def is_ready(self, mover):
+        if mover == len(self.hands):
+            return True
+        head = self.act(mover)[0]
+        return head in ("lay", "look", "same", "go") or (head != "ended" and self.found(mover) is not None)
+
+    def value(self, field, names):
+        head, what = field
+        value = what if head == "is" else names[what]
+        return (value + 1) % 100 if head == "next" and isinstance(value, int) else value
+
+    def move(self, mover):
+        """Moves, and tells the row of the log."""
+        if mover == len(self.hands):
+            gone = [number for number, row, age in self.notes if age == 1]
+            self.notes = [[number, row, age and age - 1] for number, row, age in self.notes if age != 1]
+            return ("clock", tuple(gone))
+        act = self.act(mover)
+        hand = self.hands[mover]
+        return getattr(self, act[0])(mover, hand, *act[1:])
+
+    def lay(self, mover, hand, template, age):
+        note = (tuple([self.value(field, hand[2]) for field in template]), age)
+        self.notes.append([self.made, *note])
+        self.made += 1
+        hand[1] += 1
+        return ("lays", mover, self.made - 1, note)
+
+    def get(self, mover, hand, pattern):
+        note = self.found(mover)
+        hand[2] = self.names_behind(pattern, note[1], hand[2])
+        hand[1] += 1
+        return note
+
+    def take(self, mover, hand, pattern):
+        note = self.get(mover, hand, pattern)
+        self.notes = [other for other in self.notes if other[0] != note[0]]
+        return ("takes", mover, note[0])
+
+    def read(self, mover, hand, pattern):
+        return ("reads", mover, self.get(mover, hand, pattern)[0])
+
+    def look(self, mover, hand, pattern, number):
+        if self.found(mover) is None:
+            self.go(mover, hand, number)
+            return ("looks", mover, None)
+        return ("looks", mover, self.get(mover, hand, pattern)[0])
+
+    def same(self, mover, hand, one, other, number):
+        if self.value(one, hand[2]) != self.value(other, hand[2]):
+            return self.go(mover, hand, number)
+        hand[1] += 1
+        return ("goes", mover)
+
+    def go(self, mover, hand, number):
+        wanted = self.programs[mover][number][0]
+        hand[:] = [number, 0, {name: hand[2][name] for name in wanted}]
+        return ("goes", mover)
