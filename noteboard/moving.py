@@ -21,9 +21,13 @@ def gets(programs, stand, hand):
     if act is None or act[0] not in GETTING:
         return None
     names = stand[0][hand][2]
+    # Boards that grow without bound have few unlike rows: each is held against the pattern once.
+    tried = {}
     for place, note in enumerate(stand[1]):
-        if fits(act[1], note[0], names) is not None:
-            return place
+        if note[0] not in tried:
+            if fits(act[1], note[0], names) is not None:
+                return place
+            tried[note[0]] = True
     return None
 
 
