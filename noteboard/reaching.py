@@ -44,12 +44,17 @@ def way_along(steps, stand):
     return list(reversed(movers))
 
 
+def first_seeing(programs, stands, sight):
+    for stand in stands:
+        if sees(programs, stand, sight):
+            return stand
+    return None
+
+
 def way_to(programs, stand, sight):
     steps = steps_from(programs, stand)
-    for one in steps:
-        if sees(programs, one, sight):
-            return way_along(steps, one)
-    return None
+    one = first_seeing(programs, steps, sight)
+    return None if one is None else way_along(steps, one)
 
 
 def ends(programs, stand):

@@ -13,6 +13,16 @@ def woven(programs, stand, movers):
     return stand
 
 
+def led(programs, stand, thing):
+    """The stand to which a list of movers leads; None where the thing, any plain one, is no weaving from the stand."""
+    if not isinstance(thing, list):
+        return None
+    try:
+        return woven(programs, stand, thing)
+    except NotReady:
+        return None
+
+
 def by_turns(programs, stand, many):
     clock = len(programs)
     movers = []

@@ -2,8 +2,11 @@
 
 import random
 
+from noteboard.errors import TooMany
 from noteboard.plantexts import read_plan
 from noteboard.programs import is_program, known_at
+from noteboard.reaching import reached
+from noteboard.stands import first_stand
 
 
 def nested(depth, kind):
@@ -169,6 +172,21 @@ def made_plans(seed, many, hands=(0, 1, 2, 2, 3, 3), notes=4):
             for _ in range(many)]
 
 
+LOOPED = ("lay a", "lay b", "lay a @2", "lay c 1", "take a", "take a", "take b", "read a", "look b >0", "look ?n >0",
+          "take ?n; lay =n b", "take c ?n; lay c +n", "take ?; lay a")
+
+
+def made_loops(seed, many):
+    """Plans of hands that mostly go round without end, and often lay without bound."""
+    source = random.Random(seed)
+    for _ in range(many):
+        lines = ["note " + source.choice(("a", "b", "c 97", "a @2")) for _ in range(source.randint(0, 3))]
+        for _ in range(source.choice((1, 2, 2, 3))):
+            lines += ["hand", "block"] + [source.choice(LOOPED) for _ in range(source.randint(1, 3))]
+            lines += source.choice((["go >0"], ["go >0"], []))
+        yield plan_of("; ".join(lines))
+
+
 def made_stand(source, programs, notes=6):
     """A right stand of the programs, whether a weaving leads to it or not."""
     hands = []
@@ -177,6 +195,35 @@ def made_stand(source, programs, notes=6):
         place = source.randint(0, len(one[number][1]))
         hands.append((number, place, tuple([(name, source.choice(VALUES)) for name in known_at(one, number, place)])))
     return (tuple(hands), made_notes(source, notes))
+
+
+A = ("notes", (("is", "a"),), 1)
+ALWAYS = ("all", ())
+NEVER = ("some", ())
+
+
+def sight_of(text, many=1):
+    """Of notes that fit a pattern, written as in a plan's lines."""
+    return ("notes", plan_of(f"hand; block; take {text}")[0][0][0][1][0][1], many)
+
+
+def steps_hand(many):
+    """Lines of a hand that goes through just so many places, at most 49, whatever the others do."""
+    lines = "hand; block"
+    for k in range(many - 1):
+        if k and k % 8 == 0:
+            lines += "; block"
+        lines += f"; go >{k // 8 + 1}" if k % 8 == 7 and k < many - 2 else "; same 1 1 >0"
+    return lines
+
+
+def steps_plan(*many):
+    return plan_of("; ".join([steps_hand(one) for one in many]))
+
+
+# A note counts 0 0, 0 1, .. 0 3, 1 0, .. 99 3, one hand moving at a time; then the hand ends.
+COUNTING = plan_of("note c 0 0; hand; block; take c ?a ?b; same =b 3 >1; same =a 99 >2; "
+                   "block a b; lay c =a +b; go >0; block a; lay c +a 0; go >0")
 
 
 class Board:
@@ -275,3 +322,120 @@ class Board:
         wanted = self.programs[mover][number][0]
         hand[:] = [number, 0, {name: hand[2][name] for name in wanted}]
         return ("goes", mover)
+
+
+def made_sight(source, programs, depth):
+    head = source.choice(("notes", "at", "ended", "not", "all", "some")[:None if depth else 3])
+    if head in ("all", "some"):
+        return (head, tuple([made_sight(source, programs, depth - 1) for _ in range(source.randint(0, 3))]))
+    if head == "not":
+        return (head, made_sight(source, programs, depth - 1))
+    if head == "notes" or not programs:
+        pattern = source.choice(("?", "#", "$", "a", "b", "0", "?n ?n", "? ?", "a ?", "?m ?n ?m"))
+        return sight_of(pattern, source.randint(1, 3))
+    hand = source.randrange(len(programs))
+    number = source.randrange(len(programs[hand]))
+    place = source.randint(0, len(programs[hand][number][1]))
+    return ("ended", hand) if head == "ended" else ("at", hand, number, place)
+
+
+def is_seen(board, sight):
+    head, *more = sight
+    if head == "notes":
+        return sum([board.names_behind(more[0], row, {}) is not None for number, row, age in board.notes]) >= more[1]
+    if head == "at":
+        return board.hands[more[0]][:2] == more[1:]
+    if head == "ended":
+        return board.act(more[0]) == ("ended",)
+    if head == "not":
+        return not is_seen(board, more[0])
+    truths = {is_seen(board, one) for one in more[0]}
+    return False not in truths if head == "all" else True in truths
+
+
+def leads(programs, stand):
+    """The stands to which the ready movers lead, the clock too, by the second board."""
+    told = []
+    for mover in range(len(programs) + 1):
+        board = Board(programs, stand)
+        if board.is_ready(mover):
+            board.move(mover)
+            told.append(board.stand())
+    return told
+
+
+def distances(programs, stand):
+    """Each stand come to, with the fewest moves to it, by the second board, made shorter till none is."""
+    far = {stand: 0}
+    pending = [stand]
+    while pending:
+        one = pending.pop()
+        for behind in leads(programs, one):
+            if far.get(behind, 10 ** 9) > far[one] + 1:
+                far[behind] = far[one] + 1
+                pending.append(behind)
+    return far
+
+
+def small_ones(seed, many):
+    """Programs and stands from which few stands are come to."""
+    source = random.Random(seed)
+    for programs, notes in made_plans(seed, many, (0, 1, 1, 2, 2, 3), 3):
+        for stand in (first_stand((programs, notes)), made_stand(source, programs, 3)):
+            try:
+                if len(reached(programs, stand)) <= 120:
+                    yield programs, stand
+            except TooMany:
+                pass
+
+
+def counted(having):
+    """The counts of a dict with how many there are of each row, numbers ahead of words."""
+    rows = sorted(having, key=lambda row: [(isinstance(value, str), value) for value in row])
+    return tuple([(row, having[row]) for row in rows if having[row] != 0])
+
+
+def counts_of(text):
+    """Counts, written as rows with *MANY behind them, * alone for any many, parted by "; "."""
+    counts = []
+    for count in text.split("; ") if text else []:
+        row, star, many = count.partition(" *")
+        counts.append((notes_of(row)[0][0], None if star and not many else int(many or 1)))
+    return tuple(counts)
+
+
+def greatly(entry):
+    """The counts of the entry as a dict, any many as a number greater than all that are told."""
+    return {row: 10 ** 80 if many is None else many for row, many in entry[1]}
+
+
+def is_under(one, other):
+    few, many = greatly(one), greatly(other)
+    return one[0] == other[0] and all([few.get(row, 0) <= many.get(row, 0) for row in {**few, **many}])
+
+
+def made_entry(source, programs):
+    rows = [made_row(source) for _ in range(source.randint(0, 5))]
+    counts = counted({row: source.choice((1, 1, 2, 3, 10 ** 9, None)) for row in rows})
+    return (made_stand(source, programs)[0], counts)
+
+
+def entry_leads(programs, entry):
+    """The steps of an entry as DOC.md 37 tells, by second boards with one note or none."""
+    hands, counts = entry
+    told = []
+    for hand in range(len(programs)):
+        head = Board(programs, entry).act(hand)[0]
+        for row, many in counts if head in ("take", "read", "look") else ():
+            board = Board(programs, (hands, ((row, None),)))
+            if board.found(hand):
+                board.move(hand)
+                fewer = {row: many - 1} if head == "take" and many else {}
+                told.append((board.stand()[0], counted({**dict(counts), **fewer})))
+        board = Board(programs, (hands, ()))
+        if board.is_ready(hand):
+            board.move(hand)
+            more = {row: dict(counts).get(row, 0) for number, row, age in board.notes}
+            more = {row: None if many is None else many + 1 for row, many in more.items()}
+            told.append((board.stand()[0], counted({**dict(counts), **more})))
+    return [step for k, step in enumerate(told) if step not in told[:k]]

@@ -1,9 +1,8 @@
 import copy
 import itertools
-import random
 import unittest
 
-from helper import Board, at, made_plans, made_stand, notes_of, plan_of
+from helper import A, ALWAYS, Board, COUNTING, NEVER, at, distances, notes_of, plan_of, small_ones, steps_plan
 from noteboard.errors import BoardError, NoLine, NoRow, NotReady, TooMany
 from noteboard.logs import lets_log, lives, log_of, lying
 from noteboard.moving import moved, ready
@@ -11,58 +10,6 @@ from noteboard.reaching import ends, reached, way_to
 from noteboard.sights import sees
 from noteboard.stands import fault_of, first_stand
 from noteboard.weaving import woven
-
-A = ("notes", (("is", "a"),), 1)
-ALWAYS = ("all", ())
-NEVER = ("some", ())
-
-
-def steps_hand(many):
-    """Lines of a hand that goes through just so many places, at most 49, whatever the others do."""
-    lines = "hand; block"
-    for k in range(many - 1):
-        if k and k % 8 == 0:
-            lines += "; block"
-        lines += f"; go >{k // 8 + 1}" if k % 8 == 7 and k < many - 2 else "; same 1 1 >0"
-    return lines
-
-
-def steps_plan(*many):
-    return plan_of("; ".join([steps_hand(one) for one in many]))
-
-
-# A note counts 0 0, 0 1, .. 0 3, 1 0, .. 99 3, one hand moving at a time; then the hand ends.
-COUNTING = plan_of("note c 0 0; hand; block; take c ?a ?b; same =b 3 >1; same =a 99 >2; "
-                   "block a b; lay c =a +b; go >0; block a; lay c +a 0; go >0")
-
-
-def distances(programs, stand):
-    """Each stand come to, with the fewest moves to it, by the second board, made shorter till none is."""
-    far = {stand: 0}
-    pending = [stand]
-    while pending:
-        one = pending.pop()
-        for mover in range(len(programs) + 1):
-            board = Board(programs, one)
-            if board.is_ready(mover):
-                board.move(mover)
-                behind = board.stand()
-                if far.get(behind, 10 ** 9) > far[one] + 1:
-                    far[behind] = far[one] + 1
-                    pending.append(behind)
-    return far
-
-
-def small_ones(seed, many):
-    """Programs and stands from which few stands are come to."""
-    source = random.Random(seed)
-    for programs, notes in made_plans(seed, many, (0, 1, 1, 2, 2, 3), 3):
-        for stand in (first_stand((programs, notes)), made_stand(source, programs, 3)):
-            try:
-                if len(reached(programs, stand)) <= 120:
-                    yield programs, stand
-            except TooMany:
-                pass
 
 
 class ReachedTest(unittest.TestCase):

@@ -2,19 +2,12 @@ import copy
 import random
 import unittest
 
-from helper import Board, at, check_judge, made_plans, made_stand, notes_of, plain_things, plan_of
+from helper import (A, ALWAYS, Board, NEVER, at, check_judge, is_seen, made_plans, made_sight, made_stand, notes_of,
+                    plain_things, plan_of, sight_of)
 from noteboard.sights import is_plain, is_sight, sees
 
 # The first hand has a block of two acts and one of none, the second one a block without acts.
 TWO = plan_of("hand; block; take ?n; lay =n; block; hand; block")[0]
-A = ("notes", (("is", "a"),), 1)
-NEVER = ("some", ())
-ALWAYS = ("all", ())
-
-
-def sight_of(text, many=1):
-    """Of notes that fit a pattern, written as in a plan's lines."""
-    return ("notes", plan_of(f"hand; block; take {text}")[0][0][0][1][0][1], many)
 
 
 def wrapped(sight, times, head="not"):
@@ -237,35 +230,6 @@ class SeesTest(unittest.TestCase):
                 self.assertIs(sees(programs, stand, sight), seen[-1])
                 self.assertIs(is_plain(sight), "'not'" not in repr(sight))
         self.assertGreater(min(seen.count(True), seen.count(False)), 200)
-
-
-def made_sight(source, programs, depth):
-    head = source.choice(("notes", "at", "ended", "not", "all", "some")[:None if depth else 3])
-    if head in ("all", "some"):
-        return (head, tuple([made_sight(source, programs, depth - 1) for _ in range(source.randint(0, 3))]))
-    if head == "not":
-        return (head, made_sight(source, programs, depth - 1))
-    if head == "notes" or not programs:
-        pattern = source.choice(("?", "#", "$", "a", "b", "0", "?n ?n", "? ?", "a ?", "?m ?n ?m"))
-        return sight_of(pattern, source.randint(1, 3))
-    hand = source.randrange(len(programs))
-    number = source.randrange(len(programs[hand]))
-    place = source.randint(0, len(programs[hand][number][1]))
-    return ("ended", hand) if head == "ended" else ("at", hand, number, place)
-
-
-def is_seen(board, sight):
-    head, *more = sight
-    if head == "notes":
-        return sum([board.names_behind(more[0], row, {}) is not None for number, row, age in board.notes]) >= more[1]
-    if head == "at":
-        return board.hands[more[0]][:2] == more[1:]
-    if head == "ended":
-        return board.act(more[0]) == ("ended",)
-    if head == "not":
-        return not is_seen(board, more[0])
-    truths = {is_seen(board, one) for one in more[0]}
-    return False not in truths if head == "all" else True in truths
 
 
 if __name__ == "__main__":
